@@ -1,0 +1,1 @@
+"""Gridupgrade: replacing services one at a time."""

@@ -1,0 +1,80 @@
+"""The interface, and the form of the package folder."""
+
+import ast
+import importlib
+import inspect
+import pathlib
+import unittest
+
+FOLDER = pathlib.Path(__file__).resolve().parent.parent / "gridupgrade"
+INTERFACE = {
+    "catalogs": {
+        "is_name": "(value)",
+        "is_release": "(value)",
+        "is_catalog": "(value)",
+        "compatible": "(catalog, one, other)",
+        "distance": "(catalog, start, end)",
+        "reachable": "(catalog, start)",
+        "levels": "(catalog, start)",
+        "path": "(catalog, start, end)",
+    },
+    "networks": {
+        "is_network": "(value)",
+        "neighbours": "(network, service)",
+        "lone": "(network)",
+        "parts": "(network)",
+        "odd_cycle": "(network)",
+        "shows_odd_cycle": "(network, value)",
+        "sides": "(network)",
+        "together": "(*networks)",
+    },
+}
+
+
+def trees():
+    """Return the syntax tree of each file of the package."""
+    return [(path, ast.parse(path.read_text("utf-8"))) for path in sorted(FOLDER.glob("*.py"))]
+
+
+class Interface(unittest.TestCase):
+    def test_functions_and_their_arguments(self):
+        for module, functions in INTERFACE.items():
+            found = importlib.import_module(f"gridupgrade.{module}")
+            for name, signature in functions.items():
+                self.assertEqual(str(inspect.signature(getattr(found, name))), signature)
+
+    def test_functions_are_defined_in_their_file(self):
+        for module, functions in INTERFACE.items():
+            tree = ast.parse((FOLDER / f"{module}.py").read_text("utf-8"))
+            defined = [node.name for node in tree.body if isinstance(node, ast.FunctionDef)]
+            for name in functions:
+                self.assertEqual(defined.count(name), 1, name)
+
+
+class Form(unittest.TestCase):
+    def test_the_folder_contains_python_files_only(self):
+        inside = [path.name for path in FOLDER.iterdir() if path.name != "__pycache__"]
+        self.assertIn("__init__.py", inside)
+        self.assertEqual([name for name in inside if not name.endswith(".py")], [])
+
+    def test_lengths_and_characters(self):
+        for path, tree in trees():
+            text = path.read_text("utf-8")
+            lines = text.splitlines()
+            self.assertLess(len(lines), 400, path)
+            self.assertTrue(all(len(line) <= 120 for line in lines), path)
+            self.assertTrue(all(" " <= letter <= "~" or letter == "\n" for letter in text), path)
+            for node in ast.walk(tree):
+                if isinstance(node, ast.FunctionDef):
+                    self.assertLessEqual(node.end_lineno - node.lineno + 1, 40, node.name)
+
+    def test_only_files_of_the_package_are_imported(self):
+        for path, tree in trees():
+            for node in ast.walk(tree):
+                self.assertNotIsInstance(node, ast.Import, path)
+                if isinstance(node, ast.ImportFrom):
+                    self.assertTrue(node.module.startswith("gridupgrade."), path)
+
+
+if __name__ == "__main__":
+    unittest.main()
