@@ -1,4 +1,9 @@
-"""What catalogs and networks both need: ascending sequences, and steps from name to name."""
+"""What several files need: integers, ascending sequences, and steps from one thing to the next."""
+
+
+def is_integer(value):
+    """Return whether any value is an integer; True and False are none."""
+    return isinstance(value, int) and not isinstance(value, bool)
 
 
 def is_ascending(values):
@@ -7,7 +12,7 @@ def is_ascending(values):
 
 
 def layers(links, start):
-    """Return the names that can be reached from start, as a list of ascending tuples.
+    """Return the names (or nodes) that can be reached from start, as a list of ascending tuples.
 
     links has for each name the names that are one step away from it. The first tuple holds the
     names 0 steps from start, the second one those that need 1 step, and so on.

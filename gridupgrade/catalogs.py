@@ -1,6 +1,6 @@
 """Releases, catalogs, and the ways from release to release."""
 
-from gridupgrade.basics import is_ascending, layers, least_linked
+from gridupgrade.basics import is_ascending, is_integer, layers, least_linked
 from gridupgrade.errors import NoRelease, Unreachable
 
 MOST_LETTERS = 8
@@ -38,7 +38,7 @@ def are_versions(value):
 
 def is_version(value):
     """Return whether any value is a version of the protocol."""
-    return isinstance(value, int) and not isinstance(value, bool) and 0 <= value <= HIGHEST_VERSION
+    return is_integer(value) and 0 <= value <= HIGHEST_VERSION
 
 
 def release_names(catalog):
@@ -94,6 +94,11 @@ def levels(catalog, start):
 def path(catalog, start, end):
     """Return the first one, in ascending order, of the shortest ways from start to end."""
     check_releases(catalog, (start, end))
+    return shortest_way(catalog, start, end)
+
+
+def shortest_way(catalog, start, end):
+    """Return the path from one release to another one, or raise Unreachable."""
     links = release_links(catalog)
     # Seen from the end, each step of a shortest way goes one layer down; so the least name of
     # that layer is the best one, whatever follows.
@@ -105,6 +110,19 @@ def path(catalog, start, end):
     for layer in reversed(remaining[:steps]):
         names.append(least_linked(links, names[-1], layer))
     return tuple(names)
+
+
+def is_shortest_way(catalog, value):
+    """Return whether any value is a path from release to release with as few steps as possible."""
+    if not isinstance(value, tuple) or not value:
+        return False
+    links = release_links(catalog)
+    names = release_names(catalog)
+    if not all([name in names for name in value]):
+        return False
+    if not all([following in links[name] for name, following in zip(value, value[1:])]):
+        return False
+    return len(value) == len(shortest_way(catalog, value[0], value[-1]))
 
 
 def level_of(rows, name):

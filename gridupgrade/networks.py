@@ -65,6 +65,12 @@ def lone(network):
     return tuple([service for service in network[0] if not links[service]])
 
 
+def talking(network):
+    """Return the services that are not lone, ascending."""
+    links = talk_links(network)
+    return tuple([service for service in network[0] if links[service]])
+
+
 def parts(network):
     """Return the parts of a network: services that lead to each other by neighbours."""
     found = []
@@ -119,11 +125,16 @@ def shows_odd_cycle(network, value):
     return all([do_talk(network, one, other) for one, other in zip(value, value[1:] + value[:1])])
 
 
-def sides(network):
-    """Return two ascending tuples of services such that only services of different ones talk."""
+def check_two_sided(network):
+    """Raise NotTwoSided with an odd cycle if the network has one."""
     cycle = odd_cycle(network)
     if cycle is not None:
         raise NotTwoSided(cycle)
+
+
+def sides(network):
+    """Return two ascending tuples of services such that only services of different ones talk."""
+    check_two_sided(network)
     both = ([], [])
     for rows in part_layers(network):
         for number, row in enumerate(rows):

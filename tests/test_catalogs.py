@@ -6,25 +6,7 @@ import unittest
 
 from gridupgrade.catalogs import compatible, distance, is_catalog, is_name, is_release, levels, path, reachable
 from gridupgrade.errors import NoRelease, Unreachable
-from tests.values import CHAIN, any_values, check_any_value, check_refused
-
-MANY = "abcdefghijklmn"
-
-
-def catalog_of(names, pairs):
-    """Return a catalog in which just these pairs of names, and each name with itself, are compatible."""
-    spoken = {name: [number] for number, name in enumerate(names)}
-    for number, pair in enumerate(pairs):
-        for name in pair:
-            spoken[name].append(100 + number)
-    return tuple((name, tuple(spoken[name])) for name in names)
-
-
-def all_graphs(names):
-    """Return each set of pairs of the names."""
-    pairs = list(itertools.combinations(names, 2))
-    for many in range(len(pairs) + 1):
-        yield from itertools.combinations(pairs, many)
+from tests.values import CHAIN, LETTERS, all_graphs, any_values, catalog_of, check_any_value, check_refused
 
 
 def shortest_paths(names, pairs, start, end):
@@ -111,7 +93,7 @@ class Catalogs(unittest.TestCase):
 
     def test_number_of_releases(self):
         for many in range(15):
-            value = tuple((name, (1,)) for name in MANY[:many])
+            value = tuple((name, (1,)) for name in LETTERS[:many])
             check_any_value(self, is_catalog, value, 1 <= many <= 12)
 
     def test_releases_must_be_ascending(self):
@@ -263,13 +245,13 @@ class Ways(unittest.TestCase):
         self.assertIs(compatible(wide, "ra", "rc"), False)
 
     def test_long_chain(self):
-        chain = tuple((name, (at, at + 1)) for at, name in enumerate(MANY[:12]))
+        chain = tuple((name, (at, at + 1)) for at, name in enumerate(LETTERS[:12]))
         self.assertEqual(distance(chain, "a", "l"), 11)
         self.assertEqual(path(chain, "l", "a"), tuple("lkjihgfedcba"))
         self.assertEqual(levels(chain, "c")[:3], (("c",), ("b", "d"), ("a", "e")))
 
     def test_somewhat_beyond_the_limits(self):
-        names = tuple("release" + letter * 3 for letter in MANY)
+        names = tuple("release" + letter * 3 for letter in LETTERS)
         chain = tuple((name, tuple(range(at * 10, at * 10 + 11))) for at, name in enumerate(names))
         self.assertEqual(distance(chain, names[0], names[13]), 13)
         self.assertEqual(path(chain, names[0], names[13]), names)

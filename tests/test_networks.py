@@ -6,29 +6,11 @@ import unittest
 
 from gridupgrade.errors import NoService, NotTwoSided, TooLarge
 from gridupgrade.networks import is_network, lone, neighbours, odd_cycle, parts, shows_odd_cycle, sides, together
-from tests.values import PAIR, RING, STAR, any_values, check_any_value, check_refused
+from tests.values import (
+    LETTERS, PAIR, RING, STAR, all_networks, any_values, check_any_value, check_refused, network_of, ring,
+)
 
-LETTERS = "abcdefghijklmn"
 ALL_PAIRS = tuple(itertools.combinations(LETTERS[:12], 2))
-
-
-def network_of(services, *pairs):
-    """Return the network with these services and with talks for the pairs, in whatever order."""
-    return tuple(sorted(services)), tuple(sorted(tuple(sorted(pair)) for pair in pairs))
-
-
-def ring(many):
-    """Return a network whose talks are one ring of so many services."""
-    services = LETTERS[:many]
-    return network_of(services, *zip(services, services[1:] + services[:1]))
-
-
-def all_networks(services):
-    """Return each network with these services."""
-    pairs = list(itertools.combinations(services, 2))
-    for many in range(len(pairs) + 1):
-        for talks in itertools.combinations(pairs, many):
-            yield tuple(services), talks
 
 
 def talk(network, one, other):

@@ -1,6 +1,7 @@
 """The interface, and the form of the package folder."""
 
 import ast
+import builtins
 import importlib
 import inspect
 import pathlib
@@ -27,6 +28,33 @@ INTERFACE = {
         "shows_odd_cycle": "(network, value)",
         "sides": "(network)",
         "together": "(*networks)",
+    },
+    "states": {
+        "is_state": "(network, catalog, value)",
+        "is_valid": "(network, catalog, value)",
+        "conflicts": "(network, catalog, state)",
+        "blockers": "(network, catalog, state, service, release)",
+        "run": "(network, catalog, state, schedule)",
+        "walk": "(network, catalog, state, schedule)",
+    },
+    "grids": {
+        "nodes": "(network, distance)",
+        "are_adjacent": "(network, one, other)",
+        "is_apart": "(network, distance, value)",
+        "is_matching": "(network, distance, value)",
+        "skips": "(network, catalog, start, end, schedule)",
+    },
+    "matchings": {
+        "greatest_matching": "(network, distance)",
+        "greatest_apart": "(network, distance)",
+        "cover": "(network, distance)",
+    },
+    "upgrades": {
+        "fewest": "(network, catalog, start, end)",
+        "upgrade": "(network, catalog, start, end)",
+        "evidence": "(network, catalog, start, end)",
+        "shows_fewest": "(network, catalog, start, end, value)",
+        "schedule_with": "(network, catalog, path, apart)",
     },
 }
 
@@ -67,6 +95,36 @@ class Form(unittest.TestCase):
             for node in ast.walk(tree):
                 if isinstance(node, ast.FunctionDef):
                     self.assertLessEqual(node.end_lineno - node.lineno + 1, 40, node.name)
+
+    def test_no_name_of_an_import_is_given_another_meaning(self):
+        for path, tree in trees():
+            imported = {alias.name for node in tree.body if isinstance(node, ast.ImportFrom) for alias in node.names}
+            names = [node for node in ast.walk(tree) if isinstance(node, ast.Name)]
+            taken = [node.id for node in names if isinstance(node.ctx, ast.Store)]
+            taken += [node.arg for node in ast.walk(tree) if isinstance(node, ast.arg)]
+            taken += [node.name for node in tree.body if isinstance(node, (ast.FunctionDef, ast.ClassDef))]
+            self.assertEqual(imported & set(taken), set(), path)
+
+    def test_builtins_and_methods(self):
+        functions = {"abs", "all", "any", "bool", "dict", "enumerate", "int", "isinstance", "len", "list", "max", "min",
+                     "range", "reversed", "set", "sorted", "str", "sum", "super", "tuple", "zip", "ValueError"}
+        methods = {"append", "extend", "get", "items", "keys", "update", "values", "index", "count", "__init__"}
+        for path, tree in trees():
+            for node in ast.walk(tree):
+                if isinstance(node, ast.Name) and hasattr(builtins, node.id):
+                    self.assertIn(node.id, functions, path)
+                    self.assertIsInstance(node.ctx, ast.Load, path)
+                if isinstance(node, ast.Call) and isinstance(node.func, ast.Attribute):
+                    self.assertIn(node.func.attr, methods, path)
+
+    def test_forms_that_are_not_used(self):
+        barred = (ast.GeneratorExp, ast.Lambda, ast.Global, ast.Nonlocal, ast.Div, ast.JoinedStr, ast.AsyncFunctionDef)
+        for path, tree in trees():
+            for node in ast.walk(tree):
+                self.assertNotIsInstance(node, barred, path)
+                if isinstance(node, ast.Constant):
+                    self.assertIsInstance(node.value, (int, str, type(None)), path)
+                    self.assertNotIn(chr(37), str(node.value), path)
 
     def test_only_files_of_the_package_are_imported(self):
         for path, tree in trees():

@@ -1,11 +1,63 @@
 """Values and checks that several tests share."""
 
 import copy
+import itertools
 
+LETTERS = "abcdefghijklmn"
 CHAIN = (("ra", (1, 2)), ("rb", (2, 3)), ("rc", (3, 4)), ("rd", (4, 5)))
 PAIR = (("c", "s"), (("c", "s"),))
 STAR = (("k", "m", "s"), (("k", "s"), ("m", "s")))
 RING = (("x", "y", "z"), (("x", "y"), ("x", "z"), ("y", "z")))
+
+
+def network_of(services, *pairs):
+    """Return the network with these services and with talks for the pairs, in whatever order."""
+    return tuple(sorted(services)), tuple(sorted(tuple(sorted(pair)) for pair in pairs))
+
+
+def row(many):
+    """Return a network whose talks are one row of so many services."""
+    services = LETTERS[:many]
+    return network_of(services, *zip(services, services[1:]))
+
+
+def ring(many):
+    """Return a network whose talks are one ring of so many services."""
+    services = LETTERS[:many]
+    return network_of(services, *zip(services, services[1:] + services[:1]))
+
+
+def two_sides(many, others):
+    """Return a network of so many services, each of which talks to each of so many others."""
+    services = LETTERS[:many + others]
+    return network_of(services, *itertools.product(services[:many], services[many:]))
+
+
+def all_networks(services):
+    """Return each network with these services."""
+    for talks in all_graphs(services):
+        yield tuple(services), talks
+
+
+def all_graphs(names):
+    """Return each set of pairs of the names."""
+    pairs = list(itertools.combinations(names, 2))
+    for many in range(len(pairs) + 1):
+        yield from itertools.combinations(pairs, many)
+
+
+def catalog_of(names, pairs):
+    """Return a catalog in which just these pairs of names, and each name with itself, are compatible."""
+    spoken = {name: [number] for number, name in enumerate(names)}
+    for number, pair in enumerate(pairs):
+        for name in pair:
+            spoken[name].append(100 + number)
+    return tuple((name, tuple(spoken[name])) for name in names)
+
+
+def chain(many):
+    """Return a catalog of so many releases, each compatible with the following one."""
+    return catalog_of(LETTERS[:many], list(zip(LETTERS, LETTERS[1:many])))
 
 
 def nested(wrap, depth):
@@ -32,6 +84,28 @@ def any_values():
     ]
 
 
+def variants(value):
+    """Return values made from a tuple of tuples, strings and integers by changing one part at any depth.
+
+    A part is replaced by any value or by one that looks like it; of a tuple an item is left out,
+    put in, put there twice or moved. A few of the values may be as good as the given one.
+    """
+    found = any_values()
+    if isinstance(value, tuple):
+        found += [list(value), dict(enumerate(value)), value[::-1], value + value, (value,), value[1:] + value[:1]]
+        found += [value + (extra,) for extra in any_values()]
+        for at, part in enumerate(value):
+            before, after = value[:at], value[at + 1:]
+            found += [before + after, before + (part, part) + after]
+            found += [before + (other,) + after for other in variants(part)]
+    elif isinstance(value, str):
+        found += [value + "x", value[:-1], value.upper(), value + " ", [value], {value: 1}, (value,)]
+        found += ["c", "k", "m", "s", "q", "ra", "rb", "rc", "rd", "re"]
+    else:
+        found += [value == 1, value + 1, value - 1, -value, str(value), [value], (value,), {value: 1}]
+    return found
+
+
 def check_any_value(case, function, value, expected):
     """Check that function(value) returns True or False as expected, and leaves the value as it is."""
     before = copy.deepcopy(value)
@@ -44,5 +118,5 @@ def check_refused(case, function, error, value):
     before = copy.deepcopy(value)
     with case.assertRaises(error) as caught:
         function()
-    case.assertIs(caught.exception.value, value)
+    case.assertTrue(caught.exception.value is value, repr(value)[:200])
     case.assertEqual(repr(value), repr(before))
