@@ -13,12 +13,23 @@ def greatest_matching(network, distance):
 
 def greatest_apart(network, distance):
     """Return an apart set with as many nodes as possible."""
-    firsts = first_side(network, distance)
+    return apart_with(network, distance, first_side(network, distance))
+
+
+def apart_with(network, distance, firsts):
+    """Return the greatest apart set that holds as few nodes of this one side as possible."""
     reached = reached_nodes(grid_links(network, distance), firsts)
-    # All nodes around a reached node of the first side are reached, so these nodes are apart.
-    # The nodes of a pair are both reached or both not, so just one of them is left out, and all
-    # nodes without a partner are taken: no apart set has more nodes.
-    return tuple([node for node in nodes(network, distance) if (node in reached) == (node in firsts)])
+    return apart_behind(nodes(network, distance), firsts, reached)
+
+
+def apart_behind(grid, firsts, reached):
+    """Return the nodes that are reached on the first side or not reached on the second one.
+
+    All nodes around a reached node of the first side must be reached; so these nodes are apart.
+    """
+    # The nodes of a pair of a greatest matching are both reached or both not, so just one of them
+    # is left out, and all nodes without a partner are taken: no apart set has more nodes.
+    return tuple([node for node in grid if (node in reached) == (node in firsts)])
 
 
 def cover(network, distance):

@@ -60,13 +60,24 @@ def schedule_with(network, catalog, path, apart):
 
 def schedule_along(network, way, apart):
     """Return the replacements, level by level, of the services that do not skip the level."""
+    found = [replacement for stage in stages(network, way, apart) for replacement in stage]
+    return tuple(found + lone_replacements(network, way))
+
+
+def stages(network, way, apart):
+    """Return for each level the replacements of services that skipped the one before, and those of others."""
     services = talking(network)
     found = []
     for level in range(1, len(way)):
         late = [service for service in services if (service, level - 1) in apart]
         # Who did not skip the level before runs its release; nobody skips two levels in a row.
         ready = [service for service in services if service not in late and (service, level) not in apart]
-        found.extend([(service, way[level]) for service in late + ready])
-    if len(way) > 1:
-        found.extend([(service, way[-1]) for service in lone(network)])
-    return tuple(found)
+        found.extend([[(service, way[level]) for service in group] for group in (late, ready)])
+    return found
+
+
+def lone_replacements(network, way):
+    """Return the replacements of the lone services, which go to the end in one step."""
+    if len(way) == 1:
+        return []
+    return [(service, way[-1]) for service in lone(network)]

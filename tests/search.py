@@ -1,6 +1,7 @@
 """The definitions of the document, word by word, and searches that try everything. All of it is slow."""
 
 import functools
+import heapq
 import itertools
 
 
@@ -166,3 +167,79 @@ def all_upgrades(network, catalog, start, end, most):
             if not wrong_talks(network, catalog, state_after(network, state, replacement))
         ]
     return found
+
+
+def price(services, prices):
+    """Return the sum of the prices of the services."""
+    return sum(dict(prices).get(service, 1) for service in services)
+
+
+def least_prices(network, catalog, start, prices):
+    """Return for each state that can be reached from the one in which all run start the least price."""
+    moves = all_replacements(network, catalog)
+    first = (start,) * len(network[0])
+    found = {}
+    waiting = [(0, first)]
+    while waiting:
+        paid, state = heapq.heappop(waiting)
+        if state not in found:
+            found[state] = paid
+            for replacement in moves:
+                after = state_after(network, state, replacement)
+                if after not in found and not wrong_talks(network, catalog, after):
+                    heapq.heappush(waiting, (paid + price(replacement[:1], prices), after))
+    return found
+
+
+def is_flow(network, distance, prices, value):
+    """Return whether any value is a flow."""
+    if type(value) is not tuple or not all(type(part) is tuple and len(part) == 3 for part in value):
+        return False
+    known = {repr(node) for node in all_nodes(network, distance)}
+    if not all(repr(one) in known and repr(other) in known for one, other, _ in value):
+        return False
+    if not all(type(amount) is int and amount >= 1 for _, _, amount in value):
+        return False
+    pairs = [part[:2] for part in value]
+    if len(set(pairs)) < len(pairs) or list(value) != sorted(value):
+        return False
+    if not all(one < other and adjacent(network, one, other) for one, other in pairs):
+        return False
+    at = {node: sum(part[2] for part in value if node in part[:2]) for pair in pairs for node in pair}
+    return all(at[node] <= price(node[:1], prices) for node in at)
+
+
+def all_flows(network, distance, prices):
+    """Return all flows."""
+    found = [()]
+    for one, other in itertools.combinations(all_nodes(network, distance), 2):
+        if adjacent(network, one, other):
+            most = min(price(one[:1], prices), price(other[:1], prices))
+            found += [flow + ((one, other, amount),) for flow in found for amount in range(1, most + 1)]
+    return [flow for flow in found if is_flow(network, distance, prices, flow)]
+
+
+def is_wave(network, catalog, state, value):
+    """Return whether any value is a wave of a valid state."""
+    if type(value) is not tuple or not value or not has_form_of_schedule(network, catalog, value):
+        return False
+    services = [service for service, _ in value]
+    if len(set(services)) < len(services) or list(value) != sorted(value):
+        return False
+    run = {service: [release] for service, release in zip(network[0], state)}
+    for service, release in value:
+        run[service].append(release)
+    return all(fit(catalog, *pair) for talk in network[1] for pair in itertools.product(run[talk[0]], run[talk[1]]))
+
+
+def shows_waves(network, catalog, start, end, value):
+    """Return whether any value is waves that lead from start to end."""
+    if type(value) is not tuple:
+        return False
+    state = (start,) * len(network[0])
+    for wave in value:
+        if not is_wave(network, catalog, state, wave):
+            return False
+        for replacement in wave:
+            state = state_after(network, state, replacement)
+    return state == (end,) * len(network[0])

@@ -8,12 +8,10 @@ from gridupgrade.errors import NoRelease, NotUpgrade
 from gridupgrade.grids import are_adjacent, is_apart, is_matching, nodes, skips
 from tests import search
 from tests.values import (
-    CHAIN, LETTERS, PAIR, RING, STAR, any_values, catalog_of, chain, check_any_value, check_refused, network_of, ring,
-    row, two_sides, variants,
+    ALONE, CHAIN, LETTERS, PAIR, RING, STAR, WITH_LONE, any_values, catalog_of, chain, check_any_value, check_refused,
+    network_of, ring, row, two_sides, variants,
 )
 
-ALONE = (("a", "b"), ())
-WITH_LONE = network_of("abcd", "ac", "cd")
 # rb and rc are both of level 1, rd and re of level 2, rf of level 3, rg has none.
 BRANCHES = catalog_of(
     ("ra", "rb", "rc", "rd", "re", "rf", "rg"),

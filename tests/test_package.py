@@ -56,6 +56,26 @@ INTERFACE = {
         "shows_fewest": "(network, catalog, start, end, value)",
         "schedule_with": "(network, catalog, path, apart)",
     },
+    "prices": {
+        "are_prices": "(value)",
+        "priced": "(**prices)",
+        "price_of": "(schedule, prices)",
+        "least_price": "(network, catalog, start, end, prices)",
+        "cheapest": "(network, catalog, start, end, prices)",
+        "flow": "(network, catalog, start, end, prices)",
+        "shows_cheapest": "(network, catalog, start, end, prices, value)",
+    },
+    "choices": {
+        "may_skip": "(network, distance)",
+        "must_skip": "(network, distance)",
+        "fewest_without": "(network, distance, barred)",
+    },
+    "waves": {
+        "is_wave": "(network, catalog, state, value)",
+        "after_wave": "(network, catalog, state, wave)",
+        "waves": "(network, catalog, start, end)",
+        "shows_waves": "(network, catalog, start, end, value)",
+    },
 }
 
 

@@ -8,12 +8,10 @@ from gridupgrade.errors import BadSchedule, NoRelease, NoService, NotPossible
 from gridupgrade.states import blockers, conflicts, is_state, is_valid, run, walk
 from tests import search
 from tests.values import (
-    CHAIN, LETTERS, PAIR, RING, STAR, all_networks, any_values, catalog_of, chain, check_any_value, check_refused,
-    network_of, variants,
+    ALONE, CHAIN, LETTERS, PAIR, RING, STAR, WITH_LONE, all_networks, any_values, catalog_of, chain, check_any_value,
+    check_refused, network_of, variants,
 )
 
-ALONE = (("a", "b"), ())
-WITH_LONE = network_of("abcd", "ac", "cd")
 APART = catalog_of(("ra", "rb", "rc"), [("ra", "rb")])
 TWINS = (("ra", (1, 3)), ("rb", (1, 3)), ("rc", (2, 3)), ("rd", (2,)))
 SITUATIONS = [

@@ -11,14 +11,10 @@ from gridupgrade.states import run
 from gridupgrade.upgrades import evidence, fewest, schedule_with, shows_fewest, upgrade
 from tests import search
 from tests.values import (
-    CHAIN, LETTERS, PAIR, RING, STAR, all_graphs, all_networks, any_values, catalog_of, chain, check_any_value,
-    check_refused, network_of, ring, row, two_sides, variants,
+    ALONE, CHAIN, GAP, LETTERS, PAIR, RING, STAR, TWO_WAYS, WITH_LONE, all_graphs, all_networks, any_values, catalog_of,
+    chain, check_any_value, check_refused, network_of, ring, row, two_sides, variants,
 )
 
-ALONE = (("a", "b"), ())
-WITH_LONE = network_of("abcd", "ac", "cd")
-GAP = CHAIN[:1] + CHAIN[2:]
-TWO_WAYS = catalog_of(("ra", "rb", "rc", "rd"), [("ra", "rb"), ("ra", "rc"), ("rb", "rd"), ("rc", "rd")])
 FUNCTIONS = (fewest, upgrade, evidence)
 
 

@@ -8,6 +8,11 @@ CHAIN = (("ra", (1, 2)), ("rb", (2, 3)), ("rc", (3, 4)), ("rd", (4, 5)))
 PAIR = (("c", "s"), (("c", "s"),))
 STAR = (("k", "m", "s"), (("k", "s"), ("m", "s")))
 RING = (("x", "y", "z"), (("x", "y"), ("x", "z"), ("y", "z")))
+ALONE = (("a", "b"), ())
+WITH_LONE = (("a", "b", "c", "d"), (("a", "c"), ("c", "d")))
+GAP = CHAIN[:1] + CHAIN[2:]
+# Two ways from ra to rd, and from rb to rc.
+TWO_WAYS = (("ra", (1, 2)), ("rb", (1, 3)), ("rc", (2, 4)), ("rd", (3, 4)))
 
 
 def network_of(services, *pairs):
