@@ -101,11 +101,16 @@ def is_upgrade(network, catalog, start, end, value):
 
 def least_steps(network, catalog, start):
     """Return for each state that can be reached from the one in which all run start the fewest replacements."""
+    return least_steps_from(network, catalog, (start,) * len(network[0]))
+
+
+@functools.cache
+def least_steps_from(network, catalog, first):
+    """Return for each state that can be reached from a valid state the fewest replacements."""
     pairs = fitting_pairs(catalog)
     names = [name for name, _ in catalog]
     at = {name: place for place, name in enumerate(network[0])}
     around = [[at[other] for other in network[0] if talk(network, name, other)] for name in network[0]]
-    first = (start,) * len(network[0])
     found = {first: 0}
     waiting = [first]
     for state in waiting:

@@ -76,6 +76,55 @@ INTERFACE = {
         "waves": "(network, catalog, start, end)",
         "shows_waves": "(network, catalog, start, end, value)",
     },
+    "small": {
+        "greatest_any": "(network, distance)",
+        "fewest_any": "(network, catalog, start, end)",
+        "search": "(network, catalog, state, goal)",
+    },
+    "fleets": {
+        "rehearsed": "(fleet, steps)",
+    },
+    "texts": {
+        "format_network": "(network)",
+        "format_catalog": "(catalog)",
+        "format_schedule": "(schedule)",
+        "parse_network": "(text)",
+        "parse_catalog": "(text)",
+        "parse_schedule": "(text)",
+    },
+}
+FLEET_METHODS = {
+    "replace": "(self, service, release)",
+    "upgrade": "(self, end)",
+    "tried": "(self, schedule)",
+    "log": "(self)",
+    "undo": "(self)",
+    "copy": "(self)",
+    "__len__": "(self)",
+    "__eq__": "(self, other)",
+}
+# For each class its file, its methods, and its properties.
+CLASSES = {
+    "Fleet": (
+        "fleets", {"__init__": "(self, network, catalog, start)", **FLEET_METHODS},
+        ("network", "catalog", "state", "made"),
+    ),
+    "PricedFleet": (
+        "fleets",
+        {
+            "__init__": "(self, network, catalog, start, *, prices=(), budget=None)",
+            "replace": "(self, service, release)",
+            "upgrade": "(self, end)",
+            "copy": "(self)",
+        },
+        ("prices", "budget", "spent"),
+    ),
+    "Trial": (
+        "fleets",
+        {"__init__": "(self, fleet)", "__enter__": "(self)", "__exit__": "(self, kind, value, trace)"},
+        (),
+    ),
+    "Desk": ("desk", {"__init__": "(self, network_text, catalog_text)", "say": "(self, line)"}, ()),
 }
 
 
@@ -97,6 +146,22 @@ class Interface(unittest.TestCase):
             defined = [node.name for node in tree.body if isinstance(node, ast.FunctionDef)]
             for name in functions:
                 self.assertEqual(defined.count(name), 1, name)
+
+    def test_classes_and_their_methods(self):
+        for name, (module, methods, properties) in CLASSES.items():
+            found = getattr(importlib.import_module(f"gridupgrade.{module}"), name)
+            for method, signature in methods.items():
+                self.assertEqual(str(inspect.signature(vars(found)[method])), signature)
+            for other in properties:
+                self.assertIsInstance(vars(found)[other], property)
+
+    def test_classes_are_defined_in_their_file(self):
+        for name, (module, methods, properties) in CLASSES.items():
+            tree = ast.parse((FOLDER / f"{module}.py").read_text("utf-8"))
+            [found] = [node for node in tree.body if isinstance(node, ast.ClassDef) and node.name == name]
+            defined = [node.name for node in found.body if isinstance(node, ast.FunctionDef)]
+            for other in (*methods, *properties):
+                self.assertEqual(defined.count(other), 1, other)
 
 
 class Form(unittest.TestCase):
@@ -127,8 +192,11 @@ class Form(unittest.TestCase):
 
     def test_builtins_and_methods(self):
         functions = {"abs", "all", "any", "bool", "dict", "enumerate", "int", "isinstance", "len", "list", "max", "min",
-                     "range", "reversed", "set", "sorted", "str", "sum", "super", "tuple", "zip", "ValueError"}
-        methods = {"append", "extend", "get", "items", "keys", "update", "values", "index", "count", "__init__"}
+                     "property", "range", "reversed", "set", "sorted", "str", "sum", "super", "tuple", "zip", "ValueError"}
+        methods = {"append", "extend", "get", "items", "join", "partition", "split", "update", "values", "__init__"}
+        for _, tree in trees():
+            classes = [node for node in tree.body if isinstance(node, ast.ClassDef)]
+            methods |= {node.name for found in classes for node in found.body if isinstance(node, ast.FunctionDef)}
         for path, tree in trees():
             for node in ast.walk(tree):
                 if isinstance(node, ast.Name) and hasattr(builtins, node.id):

@@ -450,6 +450,34 @@ class ShowsCheapest(unittest.TestCase):
         for parts in (((one, other, 1), (one, other, 2)), ((one, other, 2), (one, other, 1))):
             self.assertIs(shows_cheapest(PAIR, CHAIN, "ra", "rc", prices, (schedule, parts)), False)
 
+    def test_all_small_sets_of_triples(self):
+        base = cheapest(PAIR, CHAIN, "ra", "rd", ())
+        whole = len(PAIR[0])
+        self.assertEqual(len(base), whole + 2)
+        accepted = set()
+        grid = search.all_nodes(PAIR, 3)
+        triples = [(*pair, amount) for pair in itertools.product(grid, repeat=2) for amount in (-1, 0, 1, 2)]
+        for many in range(4):
+            for value in itertools.combinations(sorted(triples), many):
+                if many == 3 and sum(triple[2] for triple in value) != 2:
+                    continue
+                # The upgrade is as dear as the amounts tell, so that just their form decides.
+                more = max(0, sum(triple[2] for triple in value) - 2)
+                both = (base + base[-1:] * more, value)
+                shown = shows_cheapest(PAIR, CHAIN, "ra", "rd", (), both)
+                expected = sum(triple[2] for triple in value) == 2 and search.is_flow(PAIR, 3, (), value)
+                self.assertIs(shown, expected)
+                if shown:
+                    accepted.add(value)
+        self.assertEqual(len(accepted), 2)
+
+    def test_nodes_that_are_not_adjacent(self):
+        best = cheapest(STAR, CHAIN, "ra", "rc", ())
+        self.assertEqual(len(best), 4)
+        for one, other in itertools.product(search.all_nodes(STAR, 2), repeat=2):
+            expected = one < other and search.adjacent(STAR, one, other)
+            self.assertIs(shows_cheapest(STAR, CHAIN, "ra", "rc", (), (best, ((one, other, 1),))), expected)
+
     def test_not_ascending(self):
         prices = (("s", 5),)
         given = (STAR, CHAIN, "ra", "rc", prices)

@@ -118,10 +118,10 @@ def check_any_value(case, function, value, expected):
     case.assertEqual(repr(value), repr(before))
 
 
-def check_refused(case, function, error, value):
-    """Check that function() raises the error with this very value, which stays as it is."""
+def check_refused(case, function, error, value, name="value"):
+    """Check that function() raises the error that holds this very value, which stays as it is, under the name."""
     before = copy.deepcopy(value)
     with case.assertRaises(error) as caught:
         function()
-    case.assertTrue(caught.exception.value is value, repr(value)[:200])
+    case.assertTrue(getattr(caught.exception, name) is value, repr(value)[:200])
     case.assertEqual(repr(value), repr(before))
